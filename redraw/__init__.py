@@ -1,0 +1,1 @@
+"""Redraw: wishes mended by drawing anew."""

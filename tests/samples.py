@@ -1,0 +1,84 @@
+"""Riddles, tables and orders for the tests, and runs gone in a plain other way."""
+
+import itertools
+import random
+
+SIZES = [(many, hues) for many in range(1, 7) for hues in range(2, 5) if hues ** many <= 256]
+
+
+def chance(seed):
+    return random.Random(seed)
+
+
+def some_wish(rng, many, hues, most_rows=None):
+    length = rng.randint(1, min(3, many))
+    places = tuple(sorted(rng.sample(range(many), length)))
+    rows = list(itertools.product(range(hues), repeat=length))
+    most = len(rows) if most_rows is None else min(most_rows, len(rows))
+    return places, tuple(sorted(rng.sample(rows, rng.randint(1, most))))
+
+
+def some_riddle(rng, many, hues, number, most_rows=None):
+    return many, hues, tuple(some_wish(rng, many, hues, most_rows) for _ in range(number))
+
+
+def some_riddles(seed, most_rows=None):
+    """Riddles of all sizes, each with none to eight wishes."""
+    rng = chance(seed)
+    return [some_riddle(rng, many, hues, number, most_rows) for many, hues in SIZES for number in range(9)]
+
+
+def some_table(rng, riddle, most):
+    many, hues = riddle[:2]
+    return [[rng.randrange(hues) for _ in range(rng.randint(1, most))] for _ in range(many)]
+
+
+def some_order(rng, riddle):
+    order = list(range(len(riddle[2])))
+    rng.shuffle(order)
+    return tuple(order)
+
+
+def all_fillings(riddle):
+    return list(itertools.product(range(riddle[1]), repeat=riddle[0]))
+
+
+def plain_broken(riddle, filling):
+    told = []
+    for number in range(len(riddle[2])):
+        places, rows = riddle[2][number]
+        if any(all(filling[p] == h for p, h in zip(places, row)) for row in rows):
+            told.append(number)
+    return told
+
+
+def plain_run(riddle, table, order):
+    """A run by taking draws off copies of the table's lists."""
+    left = [list(draws) for draws in table]
+    filling = [draws.pop(0) for draws in left]
+    log = []
+    while True:
+        bad = sorted(plain_broken(riddle, filling), key=order.index)
+        if not bad:
+            return "kept", tuple(filling), log
+        places = riddle[2][bad[0]][0]
+        if min(len(left[place]) for place in places) == 0:
+            return "spent", tuple(filling), log
+        log.append((bad[0], tuple(filling[place] for place in places)))
+        for place in places:
+            filling[place] = left[place].pop(0)
+
+
+def plain_taken(riddle, table, log):
+    """The part of each place's draws that a run with this log has had."""
+    return [draws[:1 + sum(place in riddle[2][wish][0] for wish, _ in log)] for place, draws in enumerate(table)]
+
+
+def some_runs(seed, most_draws, most_rows=None):
+    """(riddle, table, order) of all sizes."""
+    rng = chance(seed)
+    told = []
+    for riddle in some_riddles(seed + 1, most_rows):
+        for _ in range(3):
+            told.append((riddle, some_table(rng, riddle, most_draws), some_order(rng, riddle)))
+    return told

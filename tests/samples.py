@@ -2,6 +2,7 @@
 
 import itertools
 import random
+from fractions import Fraction
 
 SIZES = [(many, hues) for many in range(1, 7) for hues in range(2, 5) if hues ** many <= 256]
 
@@ -82,3 +83,26 @@ def some_runs(seed, most_draws, most_rows=None):
         for _ in range(3):
             told.append((riddle, some_table(rng, riddle, most_draws), some_order(rng, riddle)))
     return told
+
+
+def pair_of(number):
+    """A number as a fraction of the program."""
+    return Fraction(number).numerator, Fraction(number).denominator
+
+
+def is_fraction(thing):
+    """Whether a thing is a pair of whole numbers in lowest terms."""
+    if type(thing) is not tuple or [type(part) for part in thing] != [int, int] or thing[1] < 1:
+        return False
+    return pair_of(Fraction(*thing)) == thing
+
+
+def plain_clash(riddle, one, other):
+    return len(set(riddle[2][one][0] + riddle[2][other][0])) < len(riddle[2][one][0]) + len(riddle[2][other][0])
+
+
+def plain_mended(riddle, filling):
+    """All fillings to which the mending of the least broken wish may lead."""
+    places = riddle[2][plain_broken(riddle, filling)[0]][0]
+    return [other for other in all_fillings(riddle)
+            if all(other[place] == filling[place] for place in range(riddle[0]) if place not in places)]

@@ -1,9 +1,16 @@
-"""Riddles, tables and orders for the tests, and runs gone in a plain other way."""
+"""Riddles, tables, orders and other things for the tests, and runs gone in a plain other way."""
 
 import itertools
 import random
 from fractions import Fraction
 
+HUGE = 10 ** 60 - 1
+# Things of anything, as a refusal may meet them: none of them is a table, a wish, a name or a row.
+ANYTHING = [
+    None, True, False, 0, 1, 2, 7, -1, HUGE, -HUGE, "", " ", "0", "1 2", "\t", "\n", "A", "~" * 4000, "x" * 4000,
+    (), [], {}, (0,), [0], {0: 0}, (None,), [None], ((),), [[]], [{}], ((0,),), [[0], []], [(0,)], ("a",), ["a"], {"a": "a"},
+    {"a": {"b": {"c": {"d": [{}, ()]}}}}, [[[[[[[[]]]]]]]], ((((((((),),),),),),),), (1, 2, ()), {(0, 1): [True]},
+]
 SIZES = [(many, hues) for many in range(1, 7) for hues in range(2, 5) if hues ** many <= 256]
 
 
@@ -106,3 +113,25 @@ def plain_mended(riddle, filling):
     places = riddle[2][plain_broken(riddle, filling)[0]][0]
     return [other for other in all_fillings(riddle)
             if all(other[place] == filling[place] for place in range(riddle[0]) if place not in places)]
+
+
+def plain_apart(riddle):
+    found = []
+    for filling in all_fillings(riddle):
+        for one, other in itertools.combinations(plain_broken(riddle, filling), 2):
+            if plain_clash(riddle, one, other):
+                found.append((one, other, filling))
+    return ("both",) + min(found) if found else ("apart",)
+
+
+def some_apart(seed, number, many_wishes):
+    """So many riddles whose wishes are apart, among them such as clash."""
+    rng = chance(seed)
+    told = []
+    while len(told) < number:
+        many, hues = rng.choice(SIZES)
+        riddle = some_riddle(rng, many, hues, rng.randint(2, many_wishes), rng.randint(1, 3))
+        pairs = itertools.combinations(range(len(riddle[2])), 2)
+        if plain_apart(riddle) == ("apart",) and any(plain_clash(riddle, one, other) for one, other in pairs):
+            told.append(riddle)
+    return told

@@ -10,7 +10,7 @@ from redraw.apart import apart
 from redraw.chances import mean
 from redraw.riddles import counts
 from redraw.running import run
-from samples import SIZES, all_fillings, chance, pair_of, plain_broken, plain_clash, some_riddle, some_riddles, some_table
+from samples import SIZES, chance, pair_of, plain_apart, some_apart, some_riddles, some_table
 
 NOUGHT = ((0,), ((0,),))
 ONE = ((0,), ((1,),))
@@ -30,28 +30,6 @@ RING = sinks([(0, 1), (1, 2), (2, 3), (3, 4), (4, 0)], 5)
 SQUARE = sinks([(0, 1), (1, 2), (2, 3), (3, 0)], 4)
 WHOLE = sinks([(0, 1), (0, 2), (0, 3), (1, 2), (1, 3), (2, 3)], 4)
 TREE = sinks([(0, 1), (1, 2), (1, 3)], 4)
-
-
-def plain_apart(riddle):
-    found = []
-    for filling in all_fillings(riddle):
-        for one, other in itertools.combinations(plain_broken(riddle, filling), 2):
-            if plain_clash(riddle, one, other):
-                found.append((one, other, filling))
-    return ("both",) + min(found) if found else ("apart",)
-
-
-def some_apart(seed, number, many_wishes):
-    """So many riddles whose wishes are apart, among them such as clash."""
-    rng = chance(seed)
-    told = []
-    while len(told) < number:
-        many, hues = rng.choice(SIZES)
-        riddle = some_riddle(rng, many, hues, rng.randint(2, many_wishes), rng.randint(1, 3))
-        pairs = itertools.combinations(range(len(riddle[2])), 2)
-        if plain_apart(riddle) == ("apart",) and any(plain_clash(riddle, one, other) for one, other in pairs):
-            told.append(riddle)
-    return told
 
 
 class ByHand(unittest.TestCase):
